@@ -1,0 +1,1 @@
+"""Seeall: fewest pieces on a board that see all cells."""
