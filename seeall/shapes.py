@@ -1,10 +1,18 @@
 """What boards, cells, steps and the like are built of."""
 
+from seeall.errors import NoNumber
+
 
 def is_whole(thing, low, high):
     """Tell whether thing is a whole number from low to high."""
     # Python counts truths among its integers; the document does not.
     return isinstance(thing, int) and not isinstance(thing, bool) and low <= thing <= high
+
+
+def check_whole(number, low, high):
+    """Refuse with NoNumber what is no whole number from low to high."""
+    if not is_whole(number, low, high):
+        raise NoNumber(f"the number is a whole one from {low} to {high}")
 
 
 def is_couple(thing):

@@ -3,15 +3,11 @@ import unittest
 
 from seeall.boards import cells_of, is_board
 from seeall.errors import NoBoard, SightError
+from tests.plain import SIZES, all_boards
 from tests.things import GREAT, refusal, told_things, wrong_things
 
-SIZES = range(1, 9)
 BEYOND = (0, 9, 10, -1, -8, 64, GREAT, -GREAT)
 NO_NUMBERS = (True, False, None, "1", "", [], [1], (), (1,), (1, 1), {}, {1: 1})
-
-
-def all_boards():
-    return [(high, wide) for high in SIZES for wide in SIZES]
 
 
 def no_boards():

@@ -20,6 +20,18 @@ type typing typing_extensions enum Enum IntEnum StrEnum Flag IntFlag Generic Pro
 namedtuple NamedTuple TypedDict TYPE_CHECKING abstractmethod
 """.split()
 
+BUILTIN_METHODS = """
+append clear copy count endswith extend find get index insert isalnum isalpha isdigit islower isspace isupper items
+join keys ljust lower lstrip partition pop remove replace reverse rfind rjust rpartition rsplit rstrip setdefault
+split splitlines startswith strip update upper values zfill bit_length add discard sort __init__
+""".split()
+
+BARRED_NAMES = """
+register mro elements open input version_info with_traceback add_note attrgetter breakpoint builtins compile copyright
+credits delattr dir eval exec exit gc getattr globals hasattr help id importlib license locals methodcaller os quit
+setattr super type vars sys format format_map args
+""".split()
+
 BARRED_NODES = (
     ast.Global, ast.AsyncFunctionDef, ast.AsyncFor, ast.AsyncWith, ast.Await, ast.Import, ast.Div,
 )
@@ -101,6 +113,54 @@ class LanguageTest(unittest.TestCase):
                 self.assertTrue(dunder_method or not bound.startswith("_"), (name, bound))
                 if not isinstance(node, ast.FunctionDef):
                     self.assertFalse(hasattr(builtins, bound), (name, bound))
+
+    def test_no_name_of_an_import_or_class_is_bound_again(self):
+        for name, text in texts():
+            tree = ast.parse(text)
+            taken = [node.name for node in tree.body if isinstance(node, ast.ClassDef)]
+            for node in tree.body:
+                if isinstance(node, ast.ImportFrom):
+                    taken += [alias.asname or alias.name for alias in node.names]
+            self.assertEqual(len(taken), len(set(taken)), name)
+            for node in ast.walk(tree):
+                if not isinstance(node, ast.ClassDef):
+                    self.assertEqual([word for word in bound_names(node) if word in taken + BARRED_NAMES], [], name)
+            functions = [node.name for node in tree.body if isinstance(node, ast.FunctionDef)]
+            self.assertEqual(len(functions), len(set(functions)), name)
+
+    def test_no_two_files_import_from_each_other(self):
+        imports = {f"seeall.{path.stem}": [] for path in files()}
+        for name, node in nodes():
+            if isinstance(node, ast.ImportFrom):
+                imports[f"seeall.{name[:-3]}"].append(node.module)
+        while imports:
+            free = [name for name in imports if not any(other in imports for other in imports[name])]
+            self.assertNotEqual(free, [], imports)
+            imports = {name: imports[name] for name in imports if name not in free}
+
+    def test_imports_name_the_file_that_defines(self):
+        defined = {}
+        for name, text in texts():
+            parts = [part for node in ast.parse(text).body for part in [node, *getattr(node, "targets", [])]]
+            defined[f"seeall.{name[:-3]}"] = [word for part in parts for word in bound_names(part)]
+        for name, node in nodes():
+            if isinstance(node, ast.ImportFrom) and node.module != "__future__":
+                for alias in node.names:
+                    self.assertIn(alias.name, defined[node.module], name)
+
+    def test_only_listed_methods_of_builtin_values(self):
+        own = [node.name for name, node in nodes() if isinstance(node, ast.FunctionDef)]
+        for name, node in nodes():
+            if isinstance(node, ast.Call) and isinstance(node.func, ast.Attribute):
+                self.assertIn(node.func.attr, BUILTIN_METHODS + own, name)
+
+    def test_generator_expressions_stand_in_calls(self):
+        calls = ["list", "tuple", "dict", "sorted", "sum", "min", "max", "any", "all", "join"]
+        standing = [part for name, node in nodes() if isinstance(node, ast.Call)
+                    and getattr(node.func, "id", getattr(node.func, "attr", None)) in calls
+                    for part in node.args if isinstance(part, ast.GeneratorExp)]
+        everywhere = [node for name, node in nodes() if isinstance(node, ast.GeneratorExp)]
+        self.assertEqual(len(standing), len(everywhere))
 
 
 if __name__ == "__main__":

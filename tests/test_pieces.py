@@ -3,13 +3,10 @@ import unittest
 
 from seeall.errors import NoPiece, NoText, SightError
 from seeall.pieces import contrary, is_piece, is_two_way, named
+from tests.plain import AROUND, CROOKED, EMPTY, ONE_WAY, SLANTING, STEPS, STRAIGHT
 from tests.things import GREAT, refusal, told_things, wrong_things
 
-NUMBERS = range(-3, 4)
-STEPS = [(down, right) for down in NUMBERS for right in NUMBERS if (down, right) != (0, 0)]
 NAMES = ("king", "queen", "rook", "bishop", "knight")
-EMPTY = ((), ())
-ONE_WAY = (((-3, 3), (0, 1), (2, -1)), ((-1, 0), (1, 2)))
 
 NO_STEPS = (
     (0, 0), (4, 0), (0, 4), (-4, 0), (0, -4), (4, 4), (-4, 3), (3, -4), (GREAT, 1), (1, -GREAT),
@@ -27,10 +24,6 @@ NO_TUPLES_OF_STEPS = (
     None, True, False, 0, 1, "", "runs", [], [(1, 1)], [[1, 1]], ([1, 1],), {}, {(1, 1): True}, (1, 1), (1,), ((),),
     (((1, 1),),), {(1, 1)}, frozenset(), b"", 1.5,
 )
-
-
-def round_steps():
-    return tuple((down, right) for down in (-1, 0, 1) for right in (-1, 0, 1) if (down, right) != (0, 0))
 
 
 def spread_out(many):
@@ -129,16 +122,12 @@ class IsPieceTest(unittest.TestCase):
 
 class NamedTest(unittest.TestCase):
     def test_the_five_names(self):
-        around = round_steps()
-        straight = tuple(step for step in around if 0 in step)
-        slanting = tuple(step for step in around if 0 not in step)
-        crooked = tuple(step for step in STEPS if sorted([abs(step[0]), abs(step[1])]) == [1, 2])
-        self.assertEqual(named("king"), (around, ()))
-        self.assertEqual(named("queen"), ((), around))
-        self.assertEqual(named("rook"), ((), straight))
-        self.assertEqual(named("bishop"), ((), slanting))
-        self.assertEqual(named("knight"), (crooked, ()))
-        self.assertEqual([len(around), len(straight), len(slanting), len(crooked)], [8, 4, 4, 8])
+        self.assertEqual(named("king"), (AROUND, ()))
+        self.assertEqual(named("queen"), ((), AROUND))
+        self.assertEqual(named("rook"), ((), STRAIGHT))
+        self.assertEqual(named("bishop"), ((), SLANTING))
+        self.assertEqual(named("knight"), (CROOKED, ()))
+        self.assertEqual([len(steps) for steps in (AROUND, STRAIGHT, SLANTING, CROOKED)], [8, 4, 4, 8])
 
     def test_other_texts(self):
         texts = ["", " ", "pawn", "kingqueen", "king queen", "king,", "king\n", "\tking", "king" * 125, "~", "0"]
