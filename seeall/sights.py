@@ -50,12 +50,17 @@ def seers(board, piece, cell):
     return view(board, contrary(piece), cell)
 
 
-def bits_of(board, cells):
-    """Tell the whole number whose bits of these cells are 1: bit k is that of the board's cell number k."""
-    wide = board[1]
-    return sum([1 << (row * wide + column) for row, column in cells])
+def place_of(board, cell):
+    """Tell at which place, from 0 on, the cell stands among the board's cells."""
+    row, column = cell
+    return row * board[1] + column
+
+
+def view_places(board, piece):
+    """Tell for each cell, in their order, the places of the cells that the piece sees from there."""
+    return [[place_of(board, other) for other in view(board, piece, cell)] for cell in cells_of(board)]
 
 
 def view_bits(board, piece):
-    """Tell for each cell of the board, in their order, the bits of what the piece sees from there."""
-    return [bits_of(board, view(board, piece, cell)) for cell in cells_of(board)]
+    """Tell for each cell the whole number in which just the bits at the places that it sees are 1."""
+    return [sum([1 << place for place in places]) for places in view_places(board, piece)]

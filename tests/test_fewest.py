@@ -6,7 +6,7 @@ from tests.plain import (
     BISHOP, DOWNWARD, EMPTY, KING, KNIGHT, NAMED, PIECES, QUEEN, ROOK, all_boards, great_boards, plain_is_lean,
     plain_lots_that_see_all, small_boards, some_pieces,
 )
-from tests.things import NO_BOARDS, NO_PIECES, board_and_piece, misordered, no_wholes, not_refused, refusal
+from tests.things import NO_BOARDS, NO_PIECES, board_and_piece, changed, misordered, no_wholes, not_refused, refusal
 
 CALLS = (least, all_least, first_least, tally, all_lean)
 
@@ -167,12 +167,9 @@ class HandedInTest(unittest.TestCase):
         self.assertEqual(first, [answers[::-1] for answers in reversed(again)])
 
     def test_nothing_handed_in_is_changed(self):
-        board, piece, wrong = [2, 3], [[(0, 1)], [(1, 0)]], [[1], {"a": [2]}]
         for call in CALLS:
-            refusal(call, board, KING)
-            refusal(call, (2, 3), piece)
-        refusal(many_lots, (2, 3), KING, wrong)
-        self.assertEqual((board, piece, wrong), ([2, 3], [[(0, 1)], [(1, 0)]], [[1], {"a": [2]}]))
+            self.assertIs(changed(call, (1, 2), KING), False)
+        self.assertIs(changed(many_lots, (1, 2), KING, 1), False)
 
 
 if __name__ == "__main__":

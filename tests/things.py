@@ -3,6 +3,7 @@
 None of them is a board, a piece or the name of one; some are cells or lots.
 """
 
+import copy
 import itertools
 
 from seeall.errors import NoBoard, NoPiece, SightError
@@ -93,6 +94,16 @@ def not_refused(call, questions):
     """The questions that the call does not refuse with what is a SightError and a ValueError."""
     kinds = [refusal(call, *told) or object for told in questions]
     return [kind for kind in kinds if not issubclass(kind, SightError) or not issubclass(kind, ValueError)]
+
+
+def changed(call, *rights, more=()):
+    """Whether the call changes anything that is handed in at any place, the others right."""
+    things = told_things() + list(more)
+    before = copy.deepcopy(things)
+    for thing in things:
+        for at in range(len(rights)):
+            refusal(call, *rights[:at], thing, *rights[at + 1:])
+    return things != before
 
 
 NO_BOARDS = [None, True, (0, 1), (1, 9), (True, 1), [1, 1], "1 1", {}, (1, 1, 1)]
