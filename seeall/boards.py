@@ -1,7 +1,7 @@
 """Boards and their cells [10]."""
 
 from seeall.errors import NoBoard, NoCell, TooGreat
-from seeall.shapes import is_couple, is_whole, is_whole_couple
+from seeall.shapes import is_couple, is_rising, is_whole, is_whole_couple
 
 LONGEST = 8
 SMALL = 12
@@ -48,3 +48,11 @@ def check_cell(board, cell):
     """Refuse with NoCell what is no cell of the board."""
     if not is_cell(board, cell):
         raise NoCell("a cell is a tuple (row, column) of two whole numbers within the board")
+
+
+def are_rising_cells(board, thing):
+    """Tell of anything whether it is a rising tuple of cells of the board."""
+    if not isinstance(thing, tuple):
+        return False
+    # Only cells are compared: other things may have no order among them.
+    return all([is_cell(board, cell) for cell in thing]) and is_rising(thing)

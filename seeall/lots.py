@@ -1,18 +1,14 @@
 """Lots of cells, what they see, and how they are filled [20], [22]."""
 
-from seeall.boards import cells_of, check_board, is_cell
+from seeall.boards import are_rising_cells, cells_of, check_board
 from seeall.errors import NoLot
-from seeall.shapes import is_rising
 from seeall.sights import check_board_and_piece, view
 
 
 def is_lot(board, thing):
     """Tell of anything whether it is a lot: a rising tuple of cells of the board."""
     check_board(board)
-    if not isinstance(thing, tuple):
-        return False
-    # Only cells are compared: other things may have no order among them.
-    return all([is_cell(board, cell) for cell in thing]) and is_rising(thing)
+    return are_rising_cells(board, thing)
 
 
 def check_lot(board, lot):

@@ -128,3 +128,17 @@ def some_lots(board, seed, many):
     for k in range(many):
         lots.append(tuple(sorted(chance.sample(cells, chance.randrange(len(cells) + 1)))))
     return lots
+
+
+def plain_is_apart(board, piece, lot):
+    return not any(plain_sees(piece, cell, other) for cell in lot for other in plain_without(lot, cell))
+
+
+def plain_is_watched(board, piece, lot):
+    return plain_sees_all(board, piece, lot) and all(
+        any(plain_sees(piece, other, cell) for other in plain_without(lot, cell)) for cell in lot)
+
+
+def plain_first_fewest(lots):
+    """The first of the lots of fewest cells, None where there is none."""
+    return sorted(lots, key=lambda lot: (len(lot), lot))[0] if lots else None

@@ -108,6 +108,8 @@ def changed(call, *rights, more=()):
 
 NO_BOARDS = [None, True, (0, 1), (1, 9), (True, 1), [1, 1], "1 1", {}, (1, 1, 1)]
 NO_PIECES = [None, False, (), ((),), [(), ()], (((0, 0),), ()), ((), ((4, 0),)), "king", {}, ((), [])]
+# Of the board (2, 3).
+NO_LOTS = [None, True, "", [], {}, ((2, 0),), ((0, 1), (0, 0)), ((0, 0), (0, 0)), ([0, 0],), (0, 0), ((0, True),)]
 
 
 def board_and_piece(board, piece):
@@ -127,6 +129,11 @@ def misordered(call, places, last=None):
         if refusal(call, *[thing for thing, due in mix]) is not due:
             faults.append((mix, due))
     return faults
+
+
+def shorter(places, many):
+    """The same places, each with so many of its wrong things, where all of them mixed are too many."""
+    return [(right, due, wrongs[:many]) for right, due, wrongs in places]
 
 
 def no_wholes(low, high):
