@@ -27,13 +27,18 @@ def run_from(board, cell, step):
     return cells
 
 
+def rising_cells(board, places):
+    """Tell the rising tuple of those of the places that are cells of the board, each once."""
+    return tuple(sorted({place for place in places if is_cell(board, place)}))
+
+
 def view(board, piece, cell):
     """Tell the rising tuple of the cells that the piece sees from the cell, looking at no refusal."""
     leaps, runs = piece
     places = [cell] + [after(cell, step) for step in leaps]
     for step in runs:
         places.extend(run_from(board, cell, step))
-    return tuple(sorted({place for place in places if is_cell(board, place)}))
+    return rising_cells(board, places)
 
 
 def sight(board, piece, cell):

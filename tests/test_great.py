@@ -43,7 +43,8 @@ def some_great_cells(high, wide):
     chance = random.Random(f"{high} {wide}")
     rows = {0, 1, 2, 3, high // 2, high - 4, high - 3, high - 2, high - 1, chance.randrange(high)}
     columns = {0, 1, 2, 3, wide // 2, wide - 4, wide - 3, wide - 2, wide - 1, chance.randrange(wide)}
-    return [(row, column) for row in sorted(rows) for column in sorted(columns) if 0 <= row < high and 0 <= column < wide]
+    return [(row, column) for row in sorted(rows) for column in sorted(columns) if 0 <= row < high
+            and 0 <= column < wide]
 
 
 def rook_counts(high, wide):

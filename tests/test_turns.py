@@ -15,7 +15,8 @@ from tests.plain import (
     some_lots, some_pieces,
 )
 from tests.things import (
-    NO_BOARDS, NO_LOTS, NO_PIECES, changed, misordered, no_cells, no_lots, no_wholes, not_refused, refusal, wrong_things,
+    NO_BOARDS, NO_LOTS, NO_PIECES, changed, misordered, no_cells, no_lots, no_wholes, not_refused, refusal,
+    wrong_things,
 )
 
 TURNS = range(8)
